@@ -1,0 +1,1 @@
+"""Spansay: sayings about the stretches of a run."""

@@ -1,0 +1,372 @@
+"""What DOC.md says, worked out word by word and slowly, to compare the program with."""
+
+import itertools
+
+WAYS = (
+    "begins", "begun", "ends", "ended", "during", "around",
+    "meets", "met", "later", "earlier", "overlaps", "overlapped",
+)
+
+# The rows of the table of [2.3], as the document has them.
+BLOCK_ROWS = {
+    "begins": "00 any, 11 more, 12 more, 22 any",
+    "begun": "00 any, 11 more, 21 more, 22 any",
+    "ends": "00 any, 10 more, 11 more, 22 any",
+    "ended": "00 any, 01 more, 11 more, 22 any",
+    "during": "00 any, 10 more, 11 more, 12 more, 22 any",
+    "around": "00 any, 01 more, 11 more, 21 more, 22 any",
+    "meets": "00 any, 10 any, 11 one, 21 any, 22 any",
+    "met": "00 any, 01 any, 11 one, 12 any, 22 any",
+    "later": "00 any, 10 more, 20 any, 21 more, 22 any",
+    "earlier": "00 any, 01 more, 02 any, 12 more, 22 any",
+    "overlaps": "00 any, 10 more, 11 more, 21 more, 22 any",
+    "overlapped": "00 any, 01 more, 11 more, 12 more, 22 any",
+}
+
+
+def leads(way, i, j, i2, j2):
+    """The table of [1.3]."""
+    return {
+        "begins": i2 == i and j2 < j,
+        "begun": i2 == i and j2 > j,
+        "ends": i2 > i and j2 == j,
+        "ended": i2 < i and j2 == j,
+        "during": i < i2 and j2 < j,
+        "around": i2 < i and j < j2,
+        "meets": i2 == j,
+        "met": j2 == i,
+        "later": i2 > j,
+        "earlier": j2 < i,
+        "overlaps": i < i2 <= j < j2,
+        "overlapped": i2 < i <= j2 < j,
+    }[way]
+
+
+def stretches(many):
+    return [(i, j) for i in range(many) for j in range(i, many)]
+
+
+def reached(many, way, i, j):
+    return [s for s in stretches(many) if leads(way, i, j, *s)]
+
+
+def told(run, saying, i, j):
+    """The table of [1.4]."""
+    word = saying[0]
+    if word == "fact":
+        return all(saying[1] in run[k] for k in range(i, j + 1))
+    if word == "point":
+        return i == j
+    if word == "not":
+        return not told(run, saying[1], i, j)
+    if word == "and":
+        return told(run, saying[1], i, j) and told(run, saying[2], i, j)
+    if word == "or":
+        return told(run, saying[1], i, j) or told(run, saying[2], i, j)
+    some = [told(run, saying[2], *s) for s in reached(len(run), saying[1], i, j)]
+    return any(some) if word == "some" else all(some)
+
+
+def kept(run, saying):
+    return told(run, saying, 0, len(run) - 1)
+
+
+def scenes(facts):
+    found = []
+    for number in range(2 ** len(facts)):
+        found.append(tuple(fact for k, fact in enumerate(facts) if number >> k & 1))
+    return found
+
+
+def runs(facts, many):
+    return itertools.product(scenes(facts), repeat=many)
+
+
+def marks(facts):
+    return tuple((scene, zone) for scene in scenes(facts) for zone in (0, 1, 2))
+
+
+def marked(run, i, j):
+    return tuple((scene, 0 if k < i else 2 if k > j else 1) for k, scene in enumerate(run))
+
+
+def told_by_marks(row, saying):
+    """Whether a row of marks is a marked run of whose run and stretch a saying holds."""
+    zones = [zone for _, zone in row]
+    if 1 not in zones or zones != sorted(zones):
+        return False
+    i = zones.index(1)
+    return told([scene for scene, _ in row], saying, i, i + zones.count(1) - 1)
+
+
+def blocks(way):
+    rows = [row.split() for row in BLOCK_ROWS[way].split(", ")]
+    return [(int(pair[0]), int(pair[1]), word) for pair, word in rows]
+
+
+def may_follow(way, h, k):
+    """Whether a place may stand in the block k behind one in the block h, or first (-1)."""
+    table = blocks(way)
+    if k == h:
+        return table[h][2] != "one"
+    return k > h and all(word == "any" for _, _, word in table[h + 1:k])
+
+
+def may_end(way, h):
+    return all(word == "any" for _, _, word in blocks(way)[h + 1:])
+
+
+def parts(saying):
+    """The parts of a saying, in order, each with the indexes of those directly within it."""
+    found = []
+
+    def walk(part):
+        inner = [p for p in part[1:] if isinstance(p, tuple)]
+        places = [walk(p) for p in inner]
+        found.append((part, places))
+        return len(found) - 1
+
+    walk(saying)
+    return found
+
+
+FORMS = {(0, 0): 0, (0, 1): 1, (0, 2): 3, (1, 0): 3, (1, 1): 1, (1, 2): 2,
+         (2, 0): 3, (2, 1): 3, (2, 2): 2, (3, 0): 3, (3, 1): 3, (3, 2): 3}
+
+
+def set_after(way, machine, pairs, mark):
+    letters, moves, _ = machine
+    scene, zone = mark
+    found = set()
+    for room, h in pairs:
+        for k, (one, other, _) in enumerate(blocks(way)):
+            if one == zone and may_follow(way, h, k):
+                found.add((moves[room][letters.index((scene, other))], k))
+    return tuple(sorted(found))
+
+
+def state_of_row(part, machines, row):
+    """The table of [2.4] for one row of marks, each state from what the row is."""
+    word = part[0]
+    zones = [zone for _, zone in row]
+    form = 3
+    if zones == sorted(zones):
+        form = 2 if 2 in zones else 1
+        if 1 not in zones:
+            form = 0 if 2 not in zones else 3
+    if word == "point":
+        return 3 if zones.count(1) >= 2 else form
+    if word == "fact":
+        return 3 if any(z == 1 and part[1] not in s for s, z in row) else form
+    if word == "not":
+        return (room(machines[0], row), form)
+    if word in ("and", "or"):
+        return (room(machines[0], row), room(machines[1], row))
+    pairs = set_of_row(part[1], machines[0], row)
+    return pairs if word == "some" else (pairs, form)
+
+
+def set_of_row(way, machine, row):
+    """The set of a row, over all choices of zones and blocks."""
+    if not row:
+        return ((0, -1),)
+    found = set()
+    table = blocks(way)
+    choices = [[k for k, b in enumerate(table) if b[0] == zone] for _, zone in row]
+    for chosen in itertools.product(*choices):
+        if not may_follow(way, -1, chosen[0]):
+            continue
+        if not all(may_follow(way, h, k) for h, k in zip(chosen, chosen[1:])):
+            continue
+        other = [(scene, table[k][1]) for (scene, _), k in zip(row, chosen)]
+        found.add((room(machine, other), chosen[-1]))
+    return tuple(sorted(found))
+
+
+def room(machine, row):
+    at = 0
+    for letter in row:
+        at = machine[1][at][machine[0].index(letter)]
+    return at
+
+
+def state_after(part, machines, state, mark):
+    word = part[0]
+    scene, zone = mark
+    if word == "point":
+        return 3 if state == 1 and zone == 1 else FORMS[state, zone]
+    if word == "fact":
+        return 3 if zone == 1 and part[1] not in scene else FORMS[state, zone]
+    if word == "not":
+        at = machines[0][0].index(mark)
+        return (machines[0][1][state[0]][at], FORMS[state[1], zone])
+    if word in ("and", "or"):
+        at = machines[0][0].index(mark)
+        return (machines[0][1][state[0]][at], machines[1][1][state[1]][at])
+    if word == "some":
+        return set_after(part[1], machines[0], state, mark)
+    return (set_after(part[1], machines[0], state[0], mark), FORMS[state[1], zone])
+
+
+def is_good(part, machines, state):
+    word = part[0]
+    if word in ("point", "fact"):
+        return state in (1, 2)
+    if word == "not":
+        return state[0] not in machines[0][2] and state[1] in (1, 2)
+    if word == "and":
+        return state[0] in machines[0][2] and state[1] in machines[1][2]
+    if word == "or":
+        return state[0] in machines[0][2] or state[1] in machines[1][2]
+    pairs = state if word == "some" else state[0]
+    ends = [r in machines[0][2] for r, h in pairs if h >= 0 and may_end(part[1], h)]
+    if word == "some":
+        return any(ends)
+    return state[1] in (1, 2) and all(ends)
+
+
+class Large(Exception):
+    """The taker is too large, as [2.5] says."""
+
+
+def paper(facts, saying):
+    """The paper of [2.6] with takers, least machines made by telling pairs of states apart."""
+    letters = marks(facts)
+    lines = []
+    for part, places in parts(saying):
+        machines = [lines[k][0] for k in places]
+        start = {"point": 0, "fact": 0, "some": ((0, -1),), "all": (((0, -1),), 0)}
+        states = [start.get(part[0], (0, 0))]
+        numbers = {states[0]: 0}
+        moves = []
+        sets = set()
+        for state in states:
+            if part[0] in ("some", "all"):
+                sets.add(state if part[0] == "some" else state[0])
+                if len(sets) > 400:
+                    raise Large()
+            row = []
+            for mark in letters:
+                after = state_after(part, machines, state, mark)
+                if after not in numbers:
+                    numbers[after] = len(states)
+                    states.append(after)
+                row.append(numbers[after])
+            moves.append(row)
+        goods = [is_good(part, machines, state) for state in states]
+        machine, room_of = least(letters, moves, goods)
+        if len(machine[1]) > 60:
+            raise Large()
+        lines.append((machine, tuple(sorted((s, room_of[numbers[s]]) for s in states))))
+    return tuple(lines)
+
+
+def least(letters, moves, goods):
+    """The least machine, by splitting blocks of rooms with one letter at a time."""
+    order = [0]
+    for at in order:
+        for after in moves[at]:
+            if after not in order:
+                order.append(after)
+    block = {at: goods[at] for at in order}
+    changed = True
+    while changed:
+        changed = False
+        for k in range(len(letters)):
+            finer = {at: (block[at], block[moves[at][k]]) for at in order}
+            if len(set(finer.values())) > len(set(block.values())):
+                changed = True
+                names = {}
+                for at in order:
+                    names.setdefault(finer[at], len(names))
+                block = {at: names[finer[at]] for at in order}
+    names = {}
+    for at in order:
+        names.setdefault(block[at], len(names))
+    room_of = {at: names[block[at]] for at in order}
+    rows = [None] * len(names)
+    for at in order:
+        rows[room_of[at]] = tuple(room_of[after] for after in moves[at])
+    lets = tuple(sorted({room_of[at] for at in order if goods[at]}))
+    return (letters, tuple(rows), lets), room_of
+
+
+def why(run, saying, i, j):
+    """Whether a saying holds of a stretch, and the paper of [3.2], of any size."""
+    yes = told(run, saying, i, j)
+    return yes, why_paper(run, saying, i, j, yes)
+
+
+def why_paper(run, saying, i, j, yes):
+    word = saying[0]
+    if word == "not":
+        return why_paper(run, saying[1], i, j, not yes)
+    if word in ("fact", "point"):
+        return ()
+    if word in ("and", "or"):
+        if (word == "and") == yes:
+            return ("both",) + tuple(why_paper(run, s, i, j, yes) for s in saying[1:])
+        k = [told(run, s, i, j) for s in saying[1:]].index(yes)
+        return ("one", k, why_paper(run, saying[k + 1], i, j, yes))
+    to = reached(len(run), saying[1], i, j)
+    if (word == "all") == yes:
+        return ("each",) + tuple(why_paper(run, saying[2], *s, yes) for s in to)
+    taken = [s for s in to if told(run, saying[2], *s) == yes][0]
+    return ("take", taken, why_paper(run, saying[2], *taken, yes))
+
+
+def size(value):
+    """The number of papers in a paper."""
+    if value and value[0] == "take":
+        return 1 + size(value[2])
+    if value and value[0] == "one":
+        return 1 + size(value[2])
+    return 1 + sum(size(v) for v in value[1:])
+
+
+def same_type(one, other, ways, depth, known=None):
+    """The definition of [4.2]; each is a pair of a run and a stretch."""
+    known = {} if known is None else known
+    key = (one, other, depth)
+    if key not in known:
+        known[key] = same_type_now(one, other, ways, depth, known)
+    return known[key]
+
+
+def same_type_now(one, other, ways, depth, known):
+    if zero(*one) != zero(*other):
+        return False
+    if depth == 0:
+        return True
+    for way in ways:
+        ones = [(one[0], s) for s in reached(len(one[0]), way, *one[1])]
+        others = [(other[0], s) for s in reached(len(other[0]), way, *other[1])]
+        for a in ones:
+            if not any(same_type(a, b, ways, depth - 1, known) for b in others):
+                return False
+        for b in others:
+            if not any(same_type(a, b, ways, depth - 1, known) for a in ones):
+                return False
+    return True
+
+
+def zero(run, stretch):
+    i, j = stretch
+    held = set(run[i])
+    for k in range(i, j + 1):
+        held &= set(run[k])
+    return held, i == j
+
+
+def random_saying(random, facts, nodes, ways=WAYS):
+    """A random saying with just so many nodes."""
+    if nodes == 1:
+        return random.choice([("point",)] + [("fact", fact) for fact in facts] * 2)
+    word = random.choice(["not", "some", "all", "some", "all"] + ["and", "or"] * 2 * (nodes > 2))
+    if word == "not":
+        return ("not", random_saying(random, facts, nodes - 1, ways))
+    if word in ("some", "all"):
+        return (word, random.choice(ways), random_saying(random, facts, nodes - 1, ways))
+    first = random.randint(1, nodes - 2)
+    return (word, random_saying(random, facts, first, ways),
+            random_saying(random, facts, nodes - 1 - first, ways))

@@ -1,0 +1,246 @@
+"""What can be seen at a glance of the rules that the package keeps to."""
+
+import ast
+import builtins
+import pathlib
+import re
+import unittest
+
+FOLDER = pathlib.Path(__file__).resolve().parent.parent / "spansay"
+FILES = sorted(FOLDER.glob("*.py"))
+
+BUILTINS = set(
+    "len range enumerate zip min max sum abs sorted reversed int str bool list tuple dict set "
+    "isinstance ord repr any all divmod ValueError".split()
+)
+METHODS = set(
+    "append clear copy count endswith extend find get index insert isalnum isalpha isdigit islower "
+    "isspace isupper items join keys ljust lower lstrip partition pop remove replace reverse rfind "
+    "rjust rpartition rsplit rstrip setdefault split splitlines startswith strip update upper values "
+    "zfill bit_length".split()
+)
+LOCAL_ONLY = {"object", "id", "format", "credits", "license", "copyright", "quit", "callable"}
+BARRED = re.compile(
+    r"(?<!\w)(type|typing|enum|Enum|Generic|Protocol|ABC|namedtuple|NamedTuple|mro|elements|open"
+    r"|input|law|register|eval|exec|globals|locals|vars|chr|lambda|global|async|yield)(?!\w)"
+)
+STATEMENTS = (
+    ast.Assign, ast.AugAssign, ast.If, ast.While, ast.For, ast.Return, ast.Break, ast.Continue,
+    ast.Raise, ast.Expr, ast.FunctionDef, ast.ClassDef, ast.ImportFrom,
+)
+
+
+def trees():
+    for path in FILES:
+        yield path, ast.parse(path.read_text())
+
+
+def functions(tree):
+    return [node for node in ast.walk(tree) if isinstance(node, ast.FunctionDef)]
+
+
+def own_methods():
+    names = set()
+    for _, tree in trees():
+        for node in ast.walk(tree):
+            if isinstance(node, ast.ClassDef):
+                names |= {part.name for part in functions(node)}
+    return names
+
+
+def defined(path):
+    names = set()
+    for node in ast.parse(path.read_text()).body:
+        if isinstance(node, (ast.FunctionDef, ast.ClassDef)):
+            names.add(node.name)
+        elif isinstance(node, ast.Assign):
+            names.add(node.targets[0].id)
+    return names
+
+
+def code_words(path):
+    """The words of a file without its docstrings and comments."""
+    return ast.unparse(Bare().visit(ast.parse(path.read_text())))
+
+
+class Bare(ast.NodeTransformer):
+    def visit_Expr(self, node):
+        if isinstance(node.value, ast.Constant):
+            return ast.Pass()
+        return node
+
+
+class FilesTest(unittest.TestCase):
+    def test_the_folder_contains_nothing_else(self):
+        found = [p for p in FOLDER.iterdir() if p.name != "__pycache__" and p.suffix != ".py"]
+        self.assertEqual(found, [])
+        self.assertIn("__init__.py", [p.name for p in FILES])
+        self.assertLessEqual(len(FILES), 100)
+
+    def test_sizes_and_characters(self):
+        for path in FILES:
+            text = path.read_text()
+            lines = text.split("\n")
+            self.assertLessEqual(len(lines) - 1, 399, path)
+            for number, line in enumerate(lines, 1):
+                self.assertLessEqual(len(line), 120, (path, number))
+                self.assertTrue(all(" " <= sign <= "~" for sign in line), (path, number))
+            self.assertTrue(text.endswith("\n"), path)
+            for node in functions(ast.parse(text)):
+                self.assertLessEqual(node.end_lineno - node.lineno + 1, 40, (path, node.name))
+
+    def test_barred_words(self):
+        for path in FILES:
+            self.assertIsNone(BARRED.search(code_words(path)), path)
+
+    def test_no_percent_sign_in_a_string(self):
+        for path, tree in trees():
+            for node in ast.walk(tree):
+                if isinstance(node, ast.Constant) and isinstance(node.value, str):
+                    self.assertNotIn("%", node.value, (path, node.lineno))
+
+
+class ImportsTest(unittest.TestCase):
+    def test_imports_name_the_file_that_defines(self):
+        for path, tree in trees():
+            for node in ast.walk(tree):
+                self.assertNotIsInstance(node, ast.Import)
+                if isinstance(node, ast.ImportFrom):
+                    package, name = node.module.split(".")
+                    self.assertEqual(package, "spansay")
+                    names = {alias.name for alias in node.names}
+                    self.assertLessEqual(names, defined(FOLDER / f"{name}.py"), path)
+                    self.assertEqual([alias.asname for alias in node.names], [None] * len(node.names))
+
+    def test_each_import_is_used(self):
+        for path, tree in trees():
+            names = {node.id for node in ast.walk(tree) if isinstance(node, ast.Name)}
+            for name in imported(tree):
+                self.assertIn(name, names, path)
+
+    def test_no_two_files_import_from_each_other(self):
+        after = {}
+        for path, tree in trees():
+            found = [n.module.split(".")[1] for n in tree.body if isinstance(n, ast.ImportFrom)]
+            after[path.stem] = found
+        done = set()
+        while len(done) < len(after):
+            ready = {name for name in after if name not in done and set(after[name]) <= done}
+            self.assertTrue(ready, "files import from each other")
+            done |= ready
+
+
+def imported(tree):
+    return [a.name for n in tree.body if isinstance(n, ast.ImportFrom) for a in n.names]
+
+
+class NamesTest(unittest.TestCase):
+    def test_no_name_is_that_of_a_builtin(self):
+        barred = set(dir(builtins)) - LOCAL_ONLY
+        for path, tree in trees():
+            for name in bound(tree):
+                self.assertNotIn(name, barred, path)
+
+    def test_no_local_name_is_that_of_an_import_or_a_class(self):
+        for path, tree in trees():
+            taken = set(imported(tree)) | {n.name for n in tree.body if isinstance(n, ast.ClassDef)}
+            for node in functions(tree):
+                self.assertFalse(taken & bound_inside(node), (path, node.name))
+
+    def test_names_are_plain(self):
+        for path, tree in trees():
+            for name in bound(tree):
+                self.assertRegex(name, r"^(_?[A-Za-z][A-Za-z0-9_]*|_|__init__)$", path)
+
+    def test_builtins_and_methods_that_are_called(self):
+        own = own_methods()
+        for path, tree in trees():
+            known = defined(path) | set(imported(tree))
+            for node in ast.walk(tree):
+                if not isinstance(node, ast.Call):
+                    continue
+                if isinstance(node.func, ast.Name):
+                    self.assertIn(node.func.id, BUILTINS | known, (path, node.lineno))
+                else:
+                    self.assertIn(node.func.attr, METHODS | own, (path, node.lineno))
+
+    def test_attributes_and_methods(self):
+        values = [str, int, list, dict, set, bytes, tuple]
+        barred = {name for value in values for name in dir(value)} - {"__init__"}
+        for path, tree in trees():
+            for name in own_methods():
+                self.assertNotIn(name, barred, path)
+            for node in ast.walk(tree):
+                if isinstance(node, ast.Attribute) and isinstance(node.ctx, ast.Store):
+                    self.assertNotIn(node.attr, barred, (path, node.lineno))
+
+    def test_no_name_is_a_method_and_an_attribute(self):
+        stored = set()
+        for _, tree in trees():
+            for node in ast.walk(tree):
+                if isinstance(node, ast.Attribute) and isinstance(node.ctx, ast.Store):
+                    stored.add(node.attr)
+        self.assertFalse(stored & own_methods())
+
+
+def bound(tree):
+    found = bound_inside(tree)
+    for node in ast.walk(tree):
+        if isinstance(node, ast.FunctionDef) or isinstance(node, ast.ClassDef):
+            found.add(node.name)
+    return found
+
+
+def bound_inside(node):
+    found = set()
+    for part in ast.walk(node):
+        if isinstance(part, ast.arg):
+            found.add(part.arg)
+        elif isinstance(part, ast.Name) and isinstance(part.ctx, ast.Store):
+            found.add(part.id)
+    return found
+
+
+class StatementsTest(unittest.TestCase):
+    def test_plain_statements(self):
+        for path, tree in trees():
+            for node in ast.walk(tree):
+                if isinstance(node, ast.stmt):
+                    self.assertIsInstance(node, STATEMENTS, (path, node.lineno))
+                if isinstance(node, (ast.FunctionDef, ast.ClassDef)):
+                    self.assertEqual(node.decorator_list, [], (path, node.lineno))
+                self.assertNotIsInstance(node, (ast.Lambda, ast.NamedExpr, ast.Set, ast.SetComp))
+                if isinstance(node, ast.Constant):
+                    self.assertNotIsInstance(node.value, (float, complex, bytes), path)
+                if isinstance(node, ast.BinOp):
+                    self.assertNotIsInstance(node.op, (ast.Div, ast.MatMult, ast.Pow), path)
+
+    def test_comparison_by_is_with_none_true_and_false(self):
+        for path, tree in trees():
+            for node in ast.walk(tree):
+                if isinstance(node, ast.Compare) and isinstance(node.ops[0], (ast.Is, ast.IsNot)):
+                    self.assertIsInstance(node.comparators[0], ast.Constant, (path, node.lineno))
+
+    def test_sets_are_counted_only(self):
+        for path, tree in trees():
+            counted = [
+                node.args[0] for node in ast.walk(tree)
+                if isinstance(node, ast.Call) and getattr(node.func, "id", "") in ("len", "sorted")
+            ]
+            for node in ast.walk(tree):
+                if isinstance(node, ast.Call) and getattr(node.func, "id", "") == "set":
+                    self.assertIn(node, counted, (path, node.lineno))
+
+    def test_module_level_holds_plain_values_alone(self):
+        for path, tree in trees():
+            for node in tree.body:
+                if isinstance(node, ast.Expr):
+                    self.assertIsInstance(node.value, ast.Constant)
+                elif isinstance(node, ast.Assign):
+                    ast.literal_eval(node.value)
+                else:
+                    self.assertIsInstance(node, (ast.ImportFrom, ast.FunctionDef, ast.ClassDef), path)
+
+
+if __name__ == "__main__":
+    unittest.main()
