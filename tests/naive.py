@@ -229,8 +229,8 @@ class Large(Exception):
     """The taker is too large, as [2.5] says."""
 
 
-def paper(facts, saying):
-    """The paper of [2.6] with takers, least machines made by telling pairs of states apart."""
+def paper(facts, saying, most_sets=400):
+    """The paper of [2.6] with takers, least machines made by telling states apart."""
     letters = marks(facts)
     lines = []
     for part, places in parts(saying):
@@ -243,7 +243,7 @@ def paper(facts, saying):
         for state in states:
             if part[0] in ("some", "all"):
                 sets.add(state if part[0] == "some" else state[0])
-                if len(sets) > 400:
+                if len(sets) > most_sets:
                     raise Large()
             row = []
             for mark in letters:
