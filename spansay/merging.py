@@ -13,7 +13,8 @@ def rooms_in_order(moves):
     met = {0: True}
     at = 0
     while at < len(order):
-        for room in moves[order[at]]:
+        row = moves[order[at]]
+        for room in row:
             if room not in met:
                 met[room] = True
                 order.append(room)
