@@ -256,7 +256,8 @@ class SpoiltTest(unittest.TestCase):
         for saying, wrong in (
             (ON, [4, -1, (), (0, 0)]), (POINT, [4, ((0, -1),)]),
             (("not", ON), [(4, 3), (0, 4), (-1, 3), 1, (0,), (0, 3, 3), ((), 3), (0, ())]),
-            (("and", ON, POINT), [(4, 0), (0, 4), (0, -1), 2, (0,), (1, 1, 1)]),
+            (("and", ON, POINT), [(4, 0), (0, 3), (0, 4), (0, -1), (-1, 0), 2, (0,), (1, 1, 1)]),
+            (("or", POINT, ON), [(3, 0), (0, 4), (0, -1), (-1, 0), 2, (0,), (1, 1, 1)]),
             (("some", "later", ON), [
                 ((4, 0),), ((0, 5),), ((0, -2),), ((0, 0), (0, 0)), ((1, 0), (0, 0)), (1,), ((1,),), 0,
                 ((0, 0, 0),), (((), 0),), ((0, ()),), ((), 3), ((-1, 0),),
@@ -272,6 +273,23 @@ class SpoiltTest(unittest.TestCase):
                 for room in range(len(machine[1])):
                     spoilt = table + ((value, room),)
                     self.assert_bad(saying, paper[:-1] + ((machine, spoilt),))
+
+    def test_sets_told_in_another_way(self):
+        for way in naive.WAYS:
+            for word in ("some", "all"):
+                saying = (word, way, ("or", ON, POINT))
+                last = len(naive.blocks(way)) - 1
+                further = ((0, last),) if word == "some" else (((0, last),), 2)
+                places = [[] for _ in naive.parts(saying)]
+                places[-1] = [further]
+                paper = roomy(("on",), saying, places)
+                self.assertIsNone(judge_paper(("on",), saying, paper))
+                machine, table = paper[-1]
+                for at, (state, room) in enumerate(table):
+                    for value in other_tellings(state if word == "some" else state[0], last):
+                        value = value if word == "some" else (value, state[1])
+                        spoilt = table[:at] + ((value, room),) + table[at + 1:]
+                        self.assert_bad(saying, paper[:-1] + ((machine, spoilt),))
 
     def test_moves(self):
         for saying in SAYINGS:
@@ -325,6 +343,19 @@ class SpoiltTest(unittest.TestCase):
         paper = paper_of(("on",), saying)
         judge_paper(("on",), saying, paper)
         self.assertEqual(paper, paper_of(("on",), saying))
+
+
+def other_tellings(pairs, last):
+    """Values that are no sets, but might be taken for this one."""
+    if pairs:
+        yield pairs + pairs[-1:]
+        yield pairs[:1] + pairs
+        yield (pairs,)
+        yield pairs + ((pairs[-1][0], last + 1),)
+    if len(pairs) > 1:
+        yield pairs[::-1]
+    if pairs == ((0, last),):
+        yield ((0, -2),)
 
 
 if __name__ == "__main__":
