@@ -22,9 +22,13 @@ def rooms_in_order(moves):
     return order
 
 
-def merged_kinds(moves, lets, order, most):
-    """Return a dict with the room of the least machine for each room in order."""
-    kinds = {room: 1 if lets[room] else 0 for room in order}
+def refined(moves, kinds, most):
+    """Return a dict with a number for each room, the same for those that no row tells apart.
+
+    The dict `kinds` has a number for each room, in the order in which rooms are
+    to be numbered; rooms with other numbers are told apart by the empty row.
+    """
+    order = list(kinds)
     many = len(set(list(kinds.values())))
     while True:
         numbers = {}
@@ -41,25 +45,33 @@ def merged_kinds(moves, lets, order, most):
         many = len(numbers)
 
 
+def first_rooms(order, numbers):
+    """Return the list of the rooms that are the first ones, in order, with their numbers."""
+    firsts = []
+    for room in order:
+        # Numbers are given in this order: a greater one than all before is a new one.
+        if numbers[room] == len(firsts):
+            firsts.append(room)
+    return firsts
+
+
 def merged(letters, moves, lets, most):
     """Return the least machine, and the dict of its room for each room that a row leads to."""
     order = rooms_in_order(moves)
-    kinds = merged_kinds(moves, lets, order, most)
+    numbers = refined(moves, {room: 1 if lets[room] else 0 for room in order}, most)
     rows = []
     let_by = []
-    for room in order:
-        # Kinds are numbered in this order: a greater one than all before is a new one.
-        if kinds[room] == len(rows):
-            rows.append(tuple([kinds[after] for after in moves[room]]))
-            if lets[room]:
-                let_by.append(kinds[room])
-    return (letters, tuple(rows), tuple(let_by)), kinds
+    for number, room in enumerate(first_rooms(order, numbers)):
+        rows.append(tuple([numbers[after] for after in moves[room]]))
+        if lets[room]:
+            let_by.append(number)
+    return (letters, tuple(rows), tuple(let_by)), numbers
 
 
-def paired(first, second):
-    """Return the list of the pairs of rooms to which rows lead in two moves, and their moves."""
-    pairs = [(0, 0)]
-    numbers = {(0, 0): 0}
+def paired_from(start, first, second):
+    """Return the list of the pairs of rooms to which rows lead from a pair, and their moves."""
+    pairs = [start]
+    numbers = {start: 0}
     moves = []
     while len(moves) < len(pairs):
         one, other = pairs[len(moves)]
@@ -71,6 +83,11 @@ def paired(first, second):
             row.append(numbers[pair])
         moves.append(row)
     return pairs, moves
+
+
+def paired(first, second):
+    """Return the list of the pairs of rooms to which rows lead in two moves, and their moves."""
+    return paired_from((0, 0), first, second)
 
 
 def row_back(came, room):

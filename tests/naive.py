@@ -370,3 +370,315 @@ def random_saying(random, facts, nodes, ways=WAYS):
     first = random.randint(1, nodes - 2)
     return (word, random_saying(random, facts, first, ways),
             random_saying(random, facts, nodes - 1 - first, ways))
+
+
+def chain_told(run, chain, at, i, j):
+    """The table of [1.4] for a line of a stretch chain, with earlier lines in the place of sayings."""
+    line = chain[at]
+    word = line[0]
+    if word == "fact":
+        return all(line[1] in run[k] for k in range(i, j + 1))
+    if word == "point":
+        return i == j
+    if word == "not":
+        return not chain_told(run, chain, line[1], i, j)
+    if word == "and":
+        return chain_told(run, chain, line[1], i, j) and chain_told(run, chain, line[2], i, j)
+    if word == "or":
+        return chain_told(run, chain, line[1], i, j) or chain_told(run, chain, line[2], i, j)
+    some = [chain_told(run, chain, line[2], *s) for s in reached(len(run), line[1], i, j)]
+    return any(some) if word == "some" else all(some)
+
+
+def future_table(run, chain):
+    """The table of [5.4]: for each line whether it holds at each place."""
+    places = range(len(run))
+    told = []
+    for line in chain:
+        word = line[0]
+        if word == "yes":
+            row = [True for _ in places]
+        elif word == "here":
+            row = [line[1] in run[k] for k in places]
+        elif word == "not":
+            row = [not told[line[1]][k] for k in places]
+        elif word == "and":
+            row = [told[line[1]][k] and told[line[2]][k] for k in places]
+        elif word == "or":
+            row = [told[line[1]][k] or told[line[2]][k] for k in places]
+        else:
+            one, other = told[line[1]], told[line[2]]
+            row = [any(other[m] and all(one[k + 1:m]) for m in places if m > k) for k in places]
+        told.append(row)
+    return told
+
+
+def random_future(random, facts, many):
+    """A random future chain with just so many lines."""
+    chain = []
+    for k in range(many):
+        word = random.choice(["yes", "here", "not", "and", "or", "until", "until", "until"])
+        if k == 0 or word in ("yes", "here"):
+            chain.append(random.choice([("yes",), ("here", random.choice(facts))]))
+        elif word == "not":
+            chain.append((word, random.randrange(k)))
+        else:
+            chain.append((word, random.randrange(k), random.randrange(k)))
+    return tuple(chain)
+
+
+def kinds_of(runs, ways, depth):
+    """The numbers of [4.3]: a dict from (which run, stretch) to the number of the type."""
+    samples = []
+    known = {}
+    kinds = {}
+    for which, run in enumerate(runs):
+        for s in stretches(len(run)):
+            for number, other in enumerate(samples):
+                if same_type((run, s), other, ways, depth, known):
+                    kinds[which, s] = number
+                    break
+            else:
+                kinds[which, s] = len(samples)
+                samples.append((run, s))
+    return kinds
+
+
+def parting(runs, ways, which, a, b, depths):
+    """The parting saying of [4.6] of a stretch `a` of one run and `b` of the other one."""
+    ours, theirs = (which, a), (1 - which, b)
+    d = [kinds[ours] == kinds[theirs] for kinds in depths].index(False)
+    if d == 0:
+        ones, others = sorted(zero(runs[which], a)[0]), sorted(zero(runs[1 - which], b)[0])
+        for p in ones:
+            if p not in others:
+                return ("fact", p)
+        for p in others:
+            if p not in ones:
+                return ("not", ("fact", p))
+        return ("point",) if a[0] == a[1] else ("not", ("point",))
+    kinds = depths[d - 1]
+    for way in ways:
+        ones = {kinds[which, c]: c for c in reached(len(runs[which]), way, *a)}
+        others = {kinds[1 - which, e]: e for e in reached(len(runs[1 - which]), way, *b)}
+        if set(ones) == set(others):
+            continue
+        if not set(ones) <= set(others):
+            c = ones[min(set(ones) - set(others))]
+            if not others:
+                return ("some", way, ("or", ("point",), ("not", ("point",))))
+            told = [parting(runs, ways, which, c, others[k], depths) for k in sorted(others)]
+            saying = told[0]
+            for part in told[1:]:
+                saying = ("and", saying, part)
+            return ("some", way, saying)
+        return ("not", parting(runs, ways, 1 - which, b, a, depths))
+
+
+def parting_saying(first, second, ways):
+    """The parting saying of two runs, None if their types are the same up to a great depth."""
+    whole = [(0, len(first) - 1), (0, len(second) - 1)]
+    depths = []
+    for d in range(12):
+        depths.append(kinds_of((first, second), ways, d))
+        if depths[-1][0, whole[0]] != depths[-1][1, whole[1]]:
+            return parting((first, second), ways, 0, whole[0], whole[1], depths)
+    return None
+
+
+def chain_lines(saying):
+    """The stretch chain of a saying: parts in front, a line that is there already not made again."""
+    lines = []
+
+    def put(part):
+        inner = tuple(put(p) for p in part[1:] if isinstance(p, tuple))
+        line = tuple(p for p in part if not isinstance(p, tuple)) + inner
+        if line not in lines:
+            lines.append(line)
+        return lines.index(line)
+
+    put(saying)
+    return tuple(lines)
+
+
+def deed(machine, row):
+    """The tuple of the rooms to which a row leads from each room."""
+    rooms = []
+    for start in range(len(machine[1])):
+        at = start
+        for letter in row:
+            at = machine[1][at][machine[0].index(letter)]
+        rooms.append(at)
+    return tuple(rooms)
+
+
+def lets(machine, row):
+    return room(machine, row) in machine[2]
+
+
+def paths(system, many):
+    """All paths of so many states, in order."""
+    found = [(state,) for state in range(len(system[0]))]
+    for _ in range(many - 1):
+        found = [path + (after,) for path in found for after in system[2][path[-1]]]
+    return found
+
+
+def tracks(system, many):
+    """All tracks of so many states, in the order of [6.2]."""
+    return [path for path in paths(system, many) if path[0] in system[1]]
+
+
+def tracks_up_to(system, many):
+    return [track for length in range(1, many + 1) for track in tracks(system, length)]
+
+
+def run_of(system, path):
+    return tuple(system[0][state] for state in path)
+
+
+def random_system(random, facts, many, moves=0.35):
+    """A random system with so many states."""
+    states = range(many)
+    firsts = [s for s in states if random.random() < 0.4] or [random.choice(states)]
+    rows = [tuple(t for t in states if random.random() < moves) for _ in states]
+    return (tuple(random.choice(scenes(facts)) for _ in states), tuple(firsts), tuple(rows))
+
+
+def later_states(system, state):
+    """The states to which one or more moves lead."""
+    found = set(system[2][state])
+    while True:
+        wider = found | {t for s in found for t in system[2][s]}
+        if wider == found:
+            return found
+        found = wider
+
+
+def path_leads(system, way, t, u):
+    """The table of [7.1]."""
+    if way == "begins":
+        return any(t == u + y for y in [t[k:] for k in range(1, len(t))])
+    if way == "begun":
+        return any(u == t + y for y in [u[k:] for k in range(1, len(u))])
+    if way == "ends":
+        return any(t == x + u for x in [t[:k] for k in range(1, len(t))])
+    if way == "ended":
+        return any(u == x + t for x in [u[:k] for k in range(1, len(u))])
+    if way == "during":
+        return any(t == t[:i] + u + t[j:] for i in range(1, len(t)) for j in range(i, len(t)))
+    if way == "around":
+        return any(u == u[:i] + t + u[j:] for i in range(1, len(u)) for j in range(i, len(u)))
+    if way == "meets":
+        return u[0] == t[-1]
+    if way == "met":
+        return u[-1] == t[0]
+    if way == "later":
+        return u[0] in later_states(system, t[-1])
+    if way == "earlier":
+        return t[0] in later_states(system, u[-1])
+    if way == "overlaps":
+        return any(t == t[:i] + u[:k] and k < len(u) for i in range(1, len(t)) for k in range(1, len(u)))
+    return any(t == u[i:] + t[k:] for i in range(1, len(u)) for k in range(1, len(t)))
+
+
+def path_told(system, saying, path, pool):
+    """[7.1] for one path, where ways lead to the paths of a pool alone."""
+    word = saying[0]
+    if word == "fact":
+        return all(saying[1] in system[0][state] for state in path)
+    if word == "point":
+        return len(path) == 1
+    if word == "not":
+        return not path_told(system, saying[1], path, pool)
+    if word == "and":
+        return all(path_told(system, part, path, pool) for part in saying[1:])
+    if word == "or":
+        return any(path_told(system, part, path, pool) for part in saying[1:])
+    to = [u for u in pool if path_leads(system, saying[1], path, u)]
+    some = [path_told(system, saying[2], u, pool) for u in to]
+    return any(some) if word == "some" else all(some)
+
+
+class Rooms:
+    """The pairs of a state and a room to which paths lead in a machine over the states."""
+
+    def __init__(self, system, machine):
+        self.system = system
+        self.machine = machine
+
+    def room(self, row):
+        return room(self.machine, row)
+
+    def step(self, pair, state):
+        return (state, self.machine[1][pair[1]][state])
+
+    def on(self, pairs):
+        """All pairs behind these pairs, by no move or more."""
+        found = set(pairs)
+        while True:
+            wider = found | {self.step(p, t) for p in found for t in self.system[2][p[0]]}
+            if wider == found:
+                return found
+            found = wider
+
+    def moved(self, pairs):
+        return {self.step(p, t) for p in pairs for t in self.system[2][p[0]]}
+
+    def alone(self, state):
+        return (state, self.machine[1][0][state])
+
+    def every(self):
+        """The pairs of all paths."""
+        return self.on({self.alone(state) for state in range(len(self.system[0]))})
+
+    def with_ahead(self, row):
+        """The pairs of all paths x row, x not empty."""
+        pairs = {p for p in self.every() if row[0] in self.system[2][p[0]]}
+        for state in row:
+            pairs = {self.step(p, state) for p in pairs}
+        return pairs
+
+    def pair(self, row):
+        return (row[-1], self.room(row))
+
+    def reached(self, way, t):
+        """The rooms of all paths to which a way leads from the path t, however long they are."""
+        inner = [t[i:j] for i in range(len(t)) for j in range(i + 1, len(t) + 1)]
+        if way in ("begins", "ends", "during"):
+            return {self.room(u) for u in inner if path_leads(self.system, way, t, u)}
+        if way == "begun":
+            pairs = self.on(self.moved({self.pair(t)}))
+        elif way == "ended":
+            pairs = self.with_ahead(t)
+        elif way == "around":
+            pairs = self.on(self.moved(self.with_ahead(t)))
+        elif way == "meets":
+            pairs = self.on({self.alone(t[-1])})
+        elif way == "met":
+            pairs = {p for p in self.every() if p[0] == t[0]}
+        elif way == "later":
+            pairs = self.on({self.alone(s) for s in later_states(self.system, t[-1])})
+        elif way == "earlier":
+            pairs = {p for p in self.every() if t[0] in later_states(self.system, p[0])}
+        elif way == "overlaps":
+            pairs = self.on(self.moved({self.pair(t[i:]) for i in range(1, len(t))}))
+        else:
+            pairs = {p for j in range(1, len(t)) for p in self.with_ahead(t[:j])}
+        return {p[1] for p in pairs}
+
+
+def path_holds(system, saying, path, reader_of):
+    """[7.1] for one path, where readers of the parts tell of the paths to which ways lead."""
+    word = saying[0]
+    if word not in ("some", "all"):
+        if word == "fact":
+            return all(saying[1] in system[0][state] for state in path)
+        if word == "point":
+            return len(path) == 1
+        told = [path_holds(system, part, path, reader_of) for part in saying[1:]]
+        return {"not": not told[0], "and": all(told), "or": any(told)}[word]
+    machine = reader_of(system, saying[2])
+    rooms = Rooms(system, machine).reached(saying[1], path)
+    lets_them = [at in machine[2] for at in rooms]
+    return any(lets_them) if word == "some" else all(lets_them)

@@ -2,6 +2,7 @@
 
 import ast
 import builtins
+import functools
 import pathlib
 import re
 import unittest
@@ -26,19 +27,20 @@ BARRED = re.compile(
 )
 STATEMENTS = (
     ast.Assign, ast.AugAssign, ast.If, ast.While, ast.For, ast.Return, ast.Break, ast.Continue,
-    ast.Raise, ast.Expr, ast.FunctionDef, ast.ClassDef, ast.ImportFrom,
+    ast.Raise, ast.Expr, ast.FunctionDef, ast.ClassDef, ast.ImportFrom, ast.Try,
 )
 
 
+@functools.cache
 def trees():
-    for path in FILES:
-        yield path, ast.parse(path.read_text())
+    return [(path, ast.parse(path.read_text())) for path in FILES]
 
 
 def functions(tree):
     return [node for node in ast.walk(tree) if isinstance(node, ast.FunctionDef)]
 
 
+@functools.cache
 def own_methods():
     names = set()
     for _, tree in trees():
@@ -48,6 +50,7 @@ def own_methods():
     return names
 
 
+@functools.cache
 def defined(path):
     names = set()
     for node in ast.parse(path.read_text()).body:
@@ -166,7 +169,7 @@ class NamesTest(unittest.TestCase):
 
     def test_attributes_and_methods(self):
         values = [str, int, list, dict, set, bytes, tuple]
-        barred = {name for value in values for name in dir(value)} - {"__init__"}
+        barred = {name for value in values for name in dir(value)} - {"__init__", "copy"}
         for path, tree in trees():
             for name in own_methods():
                 self.assertNotIn(name, barred, path)
@@ -174,13 +177,54 @@ class NamesTest(unittest.TestCase):
                 if isinstance(node, ast.Attribute) and isinstance(node.ctx, ast.Store):
                     self.assertNotIn(node.attr, barred, (path, node.lineno))
 
-    def test_no_name_is_a_method_and_an_attribute(self):
-        stored = set()
+    def test_no_name_is_a_method_and_an_attribute_of_a_class(self):
+        families = {}
         for _, tree in trees():
+            for node in tree.body:
+                if isinstance(node, ast.ClassDef):
+                    families[node.name] = families.get(node.name, [])
+                    families[node.name].append(node)
+                    for base in node.bases:
+                        families.setdefault(base.id, []).append(node)
+        for name, nodes in families.items():
+            methods = {part.name for node in nodes for part in functions(node)}
+            stored = {
+                part.attr for node in nodes for part in ast.walk(node)
+                if isinstance(part, ast.Attribute) and isinstance(part.ctx, ast.Store)
+            }
+            self.assertFalse(stored & methods, name)
+
+    def test_no_method_is_read_off_a_class(self):
+        for path, tree in trees():
+            classes = {name for name in imported(tree) if name[0].isupper() and not name.isupper()}
+            classes |= {node.name for node in tree.body if isinstance(node, ast.ClassDef)}
             for node in ast.walk(tree):
-                if isinstance(node, ast.Attribute) and isinstance(node.ctx, ast.Store):
-                    stored.add(node.attr)
-        self.assertFalse(stored & own_methods())
+                if isinstance(node, ast.Attribute) and isinstance(node.value, ast.Name):
+                    self.assertNotIn(node.value.id, classes, (path, node.lineno))
+
+    def test_attributes_that_are_read_are_assigned(self):
+        stored = set()
+        read = {}
+        for path, tree in trees():
+            for node in ast.walk(tree):
+                if isinstance(node, ast.Attribute):
+                    if isinstance(node.ctx, ast.Store):
+                        stored.add(node.attr)
+                    else:
+                        read[node.attr] = (path, node.lineno)
+        for name, place in read.items():
+            self.assertIn(name, stored | own_methods() | METHODS, place)
+
+    def test_lists_and_dicts_of_a_module_are_read_on_the_spot(self):
+        for path, tree in trees():
+            tables = {
+                node.targets[0].id for node in tree.body
+                if isinstance(node, ast.Assign) and isinstance(node.value, (ast.Dict, ast.List))
+            }
+            for node in ast.walk(tree):
+                if isinstance(node, ast.Call) and getattr(node.func, "id", "") not in ("dict", "list", "len"):
+                    for part in node.args:
+                        self.assertNotIn(getattr(part, "id", ""), tables, (path, node.lineno))
 
 
 def bound(tree):
@@ -210,6 +254,9 @@ class StatementsTest(unittest.TestCase):
                 if isinstance(node, (ast.FunctionDef, ast.ClassDef)):
                     self.assertEqual(node.decorator_list, [], (path, node.lineno))
                 self.assertNotIsInstance(node, (ast.Lambda, ast.NamedExpr, ast.Set, ast.SetComp))
+                if isinstance(node, ast.Try):
+                    self.assertEqual([h.type.id for h in node.handlers], ["BadForm"], (path, node.lineno))
+                    self.assertFalse(node.finalbody)
                 if isinstance(node, ast.Constant):
                     self.assertNotIsInstance(node.value, (float, complex, bytes), path)
                 if isinstance(node, ast.BinOp):
