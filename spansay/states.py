@@ -167,13 +167,20 @@ class Sets:
                 after[block + 1] = self.image(rooms, at - zone + other)
         return tuple(after)
 
+    def ended(self, masks):
+        """Return the rooms, as bits, of the pairs that may be the last ones."""
+        rooms = 0
+        for block in self.ends:
+            rooms |= masks[block + 1]
+        return rooms
+
     def some_end(self, masks):
         """Return True if a pair that may be the last one has a room that lets by."""
-        return any(masks[block + 1] & self.let_by for block in self.ends)
+        return self.ended(masks) & self.let_by != 0
 
     def all_end(self, masks):
         """Return True if each pair that may be the last one has a room that lets by."""
-        return not any(masks[block + 1] & ~self.let_by for block in self.ends)
+        return self.ended(masks) & ~self.let_by == 0
 
     def told(self, masks):
         pairs = []
@@ -253,17 +260,23 @@ class AllStates:
         return state[0]
 
 
-def states_of(facts, part, machines):
-    """Return the states of a part, with the machines of the parts directly within it."""
-    word = part[0]
-    if word == "point":
-        return PointStates()
-    if word == "fact":
-        return FactStates(facts.index(part[1]))
-    if word == "not":
-        return NotStates(machines[0])
-    if word == "some":
-        return SomeStates(part[1], machines[0])
-    if word == "all":
-        return AllStates(part[1], machines[0])
-    return BothStates(word, machines[0], machines[1])
+class MarkStates:
+    """Tells the states of the parts of a saying for the marks of facts."""
+
+    def __init__(self, facts):
+        self.facts = facts
+
+    def states_of(self, part, machines):
+        """Return the states of a part, with the machines of the parts directly within it."""
+        word = part[0]
+        if word == "point":
+            return PointStates()
+        if word == "fact":
+            return FactStates(self.facts.index(part[1]))
+        if word == "not":
+            return NotStates(machines[0])
+        if word == "some":
+            return SomeStates(part[1], machines[0])
+        if word == "all":
+            return AllStates(part[1], machines[0])
+        return BothStates(word, machines[0], machines[1])

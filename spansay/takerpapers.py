@@ -3,7 +3,7 @@
 from spansay.blocks import marks_of
 from spansay.errors import BadPaper
 from spansay.sayings import parts_and_places
-from spansay.states import states_of
+from spansay.states import MarkStates
 from spansay.takers import worked_out
 
 
@@ -43,18 +43,22 @@ def check_table(kind, rooms, machine):
         for at in range(len(letters)):
             after = kind.after(state, at)
             if after not in rooms or rooms[after] != moves[room][at]:
-                raise BadPaper("a state behind one mark more does not have its room")
+                raise BadPaper("a state behind one letter more does not have its room")
+
+
+def check_lines(letters, saying, kinds, paper):
+    """Raise BadPaper if the lines of a paper are not right, by the kinds of states of the parts."""
+    parts = parts_and_places(saying)
+    if len(paper) != len(parts):
+        raise BadPaper("there is not one line for each part")
+    for (part, places), (machine, table) in zip(parts, paper):
+        if machine[0] != letters:
+            raise BadPaper("a machine does not have the letters that are due")
+        machines = [paper[place][0] for place in places]
+        kind = kinds.states_of(part, machines)
+        check_table(kind, understood_table(kind, table, len(machine[1])), machine)
 
 
 def judge_paper(facts, saying, paper):
     """Raise BadPaper if a paper is not right."""
-    parts = parts_and_places(saying)
-    if len(paper) != len(parts):
-        raise BadPaper("there is not one line for each part")
-    marks = marks_of(facts)
-    for (part, places), (machine, table) in zip(parts, paper):
-        if machine[0] != marks:
-            raise BadPaper("a machine is not over the marks")
-        machines = [paper[place][0] for place in places]
-        kind = states_of(facts, part, machines)
-        check_table(kind, understood_table(kind, table, len(machine[1])), machine)
+    check_lines(marks_of(facts), saying, MarkStates(facts), paper)

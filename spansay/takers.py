@@ -6,11 +6,11 @@ from spansay.machines import MAX_ROOMS, MAX_SETS
 from spansay.merging import merged
 from spansay.sayings import parts_and_places
 from spansay.sayingtexts import saying_text
-from spansay.states import states_of
+from spansay.states import MarkStates
 
 
 class Worked:
-    """A part that is worked out: its kind of states, the states and their rooms, its taker."""
+    """A part that is worked out: its kind of states, the states and their rooms, its machine."""
 
     def __init__(self, kind, states, rooms, machine):
         self.kind = kind
@@ -20,7 +20,7 @@ class Worked:
 
 
 def explored(kind, many):
-    """Return the list of the states of all rows of so many marks, and the moves between them."""
+    """Return the list of the states of all rows of so many letters, and the moves between them."""
     states = [kind.start()]
     numbers = {states[0]: 0}
     moves = []
@@ -41,26 +41,30 @@ def explored(kind, many):
     return states, moves
 
 
-def worked_part(marks, kind):
+def worked_part(letters, kind):
     """Work out one part by its kind of states."""
-    states, moves = explored(kind, len(marks))
+    states, moves = explored(kind, len(letters))
     lets = [kind.is_good(state) for state in states]
-    machine, rooms = merged(marks, moves, lets, MAX_ROOMS)
+    machine, rooms = merged(letters, moves, lets, MAX_ROOMS)
     return Worked(kind, states, rooms, machine)
 
 
-def worked_out(facts, saying):
-    """Return the list of all parts of a saying, in order, worked out."""
-    marks = marks_of(facts)
+def worked_parts(letters, saying, kinds):
+    """Return the list of all parts of a saying, in order, worked out by their kinds of states."""
     known = {}
     worked = []
     for part, places in parts_and_places(saying):
         text = saying_text(part)
         if text not in known:
             machines = [worked[place].machine for place in places]
-            known[text] = worked_part(marks, states_of(facts, part, machines))
+            known[text] = worked_part(letters, kinds.states_of(part, machines))
         worked.append(known[text])
     return worked
+
+
+def worked_out(facts, saying):
+    """Return the list of all parts of a saying, in order, with their takers."""
+    return worked_parts(marks_of(facts), saying, MarkStates(facts))
 
 
 def taker_of(facts, saying):
