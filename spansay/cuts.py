@@ -161,7 +161,7 @@ class Solver:
     def by_cut(self, problem):
         """Return the same, by cutting at some of the letters."""
         landings = wide_landings(problem) if self.is_wide else narrow_landings(problem)
-        landing = min([cost_of(problem, landing) for landing in landings])[2]
+        landing = min([cost_of(problem, states) for states in landings])[2]
         cutting, rest = parted_letters(problem.letters, landing)
         landed = self.landed(problem, landing, cutting, rest)
         left = Backward(problem.many, rest, problem.stops + landed, problem.end)

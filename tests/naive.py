@@ -682,3 +682,154 @@ def path_holds(system, saying, path, reader_of):
     rooms = Rooms(system, machine).reached(saying[1], path)
     lets_them = [at in machine[2] for at in rooms]
     return any(lets_them) if word == "some" else all(lets_them)
+
+
+def row_end(system, row):
+    """The end of [7.3]."""
+    if not row:
+        return -1
+    return row[-1] if all(t in system[2][s] for s, t in zip(row, row[1:])) else -2
+
+
+def path_set(system, way, machine, r):
+    """The set of [7.3], for a row that is a path, word by word as the table has it."""
+    rooms = Rooms(system, machine)
+    prefixes = [r[:k] for k in range(1, len(r))]
+    suffixes = [r[k:] for k in range(1, len(r))]
+    inner = [r[i:j] for i in range(1, len(r)) for j in range(i + 1, len(r))]
+    if way == "begins":
+        found = [(rooms.room(r), 0)] + [(rooms.room(u), 1) for u in prefixes]
+    elif way == "begun":
+        found = [(rooms.room(r), 0)]
+    elif way in ("ends", "overlaps"):
+        found = [(rooms.room(u), 0) for u in suffixes]
+    elif way == "during":
+        found = [(rooms.room(u), 0) for u in suffixes] + [(rooms.room(u), 1) for u in inner]
+    elif way in ("ended", "around"):
+        found = [(at, 0) for _, at in rooms.with_ahead(r)]
+    elif way == "overlapped":
+        found = [(at, 0) for _, at in rooms.with_ahead(r)]
+        found += [(at, 1) for v in prefixes for _, at in rooms.with_ahead(v)]
+    else:
+        found = [] if way in ("meets", "later") else [(r[0], 0)]
+    return tuple(sorted(set(found)))
+
+
+def path_state(system, part, machines, row):
+    """The state of [7.3] behind a row."""
+    word, end = part[0], row_end(system, row)
+    if word == "point":
+        return (end, 0 if end == -2 else min(len(row), 2))
+    if word == "fact":
+        return (end, 1 if end != -2 and all(part[1] in system[0][s] for s in row) else 0)
+    if word in ("some", "all"):
+        return (end, path_set(system, part[1], machines[0], row) if end >= 0 else ())
+    return (end,) + tuple(room(machine, row) for machine in machines)
+
+
+def path_state_after(system, part, machines, state, q):
+    """The state behind one state of the system more, also for states of no row ([7.5])."""
+    word, end = part[0], state[0]
+    new = q if end == -1 or (end >= 0 and q in system[2][end]) else -2
+    if word == "point":
+        return (new, 0 if new == -2 else min(state[1] + 1, 2))
+    if word == "fact":
+        return (new, 1 if new != -2 and state[1] and part[1] in system[0][q] else 0)
+    if word not in ("some", "all"):
+        return (new,) + tuple(machine[1][at][q] for machine, at in zip(machines, state[1:]))
+    if new == -2:
+        return (-2, ())
+    way, machine = part[1], machines[0]
+    if end == -1:
+        return (q, path_set(system, way, machine, (q,)))
+    found = set()
+    for at, mark in state[1]:
+        if way in ("met", "earlier") or mark == 1:
+            found.add((at, mark))
+        else:
+            found.add((machine[1][at][q], 0))
+            if way in ("begins", "during", "overlapped"):
+                found.add((at, 1))
+    if way in ("ends", "overlaps", "during"):
+        found.add((machine[1][0][q], 0))
+    return (new, tuple(sorted(found)))
+
+
+def path_state_rooms(system, way, machine, state):
+    """The rooms of a way, told by the end and the set."""
+    end, pairs = state
+    rooms = Rooms(system, machine)
+    if way in ("begins", "during", "overlapped"):
+        return {at for at, mark in pairs if mark == 1}
+    if way in ("ends", "ended"):
+        return {at for at, _ in pairs}
+    if way in ("begun", "around", "overlaps"):
+        found = rooms.on(rooms.moved({(end, at) for at, _ in pairs}))
+    elif way == "meets":
+        found = rooms.on({rooms.alone(end)})
+    elif way == "later":
+        found = rooms.on({rooms.alone(s) for s in later_states(system, end)})
+    elif way == "met":
+        found = {p for p in rooms.every() if p[0] in [at for at, _ in pairs]}
+    else:
+        found = {p for p in rooms.every() if any(at in later_states(system, p[0]) for at, _ in pairs)}
+    return {at for _, at in found}
+
+
+def is_path_state_good(system, part, machines, state):
+    if state[0] < 0:
+        return False
+    word = part[0]
+    if word in ("point", "fact"):
+        return state[1] == 1
+    if word in ("some", "all"):
+        told = [at in machines[0][2] for at in path_state_rooms(system, part[1], machines[0], state)]
+        return any(told) if word == "some" else all(told)
+    told = [at in machine[2] for machine, at in zip(machines, state[1:])]
+    return {"not": not told[0], "and": all(told), "or": any(told)}[word]
+
+
+def path_line(system, part, machines, most_states=400, most_rooms=60):
+    """The line of [7.5] with the reader of a part; states from what the rows are, not from one another."""
+    letters = tuple(range(len(system[0])))
+    samples = {path_state(system, part, machines, ()): ()}
+    moves = []
+    for state in (order := list(samples)):
+        row = []
+        for q in letters:
+            longer = samples[state] + (q,)
+            after = path_state(system, part, machines, longer)
+            if after not in samples:
+                samples[after] = longer
+                order.append(after)
+            row.append(order.index(after))
+        moves.append(row)
+        if part[0] in ("some", "all") and len(order) > most_states:
+            raise Large()
+    goods = [is_path_state_good(system, part, machines, state) for state in order]
+    machine, room_of = least(letters, moves, goods)
+    if len(machine[1]) > most_rooms:
+        raise Large()
+    return machine, tuple(sorted((state, room_of[at]) for at, state in enumerate(order)))
+
+
+def readers_paper(system, saying):
+    """The paper of readers with the states of all rows."""
+    lines = []
+    for part, places in parts(saying):
+        lines.append(path_line(system, part, [lines[k][0] for k in places]))
+    return tuple(lines)
+
+
+def plain_path_line(system, part, machines, extra):
+    """A right line whose machine has a room for each state: those of all rows, extra ones, and all behind them."""
+    order = [path_state(system, part, machines, ())]
+    order += [state for state in dict.fromkeys(extra) if state not in order]
+    moves = []
+    for state in order:
+        after = [path_state_after(system, part, machines, state, q) for q in range(len(system[0]))]
+        order.extend(s for s in dict.fromkeys(after) if s not in order)
+        moves.append(tuple(order.index(s) for s in after))
+    goods = tuple(at for at, state in enumerate(order) if is_path_state_good(system, part, machines, state))
+    machine = (tuple(range(len(system[0]))), tuple(moves), goods)
+    return machine, tuple((state, at) for at, state in enumerate(order))
