@@ -139,7 +139,7 @@ def imported(tree):
 
 class NamesTest(unittest.TestCase):
     def test_no_name_is_that_of_a_builtin(self):
-        barred = set(dir(builtins)) - LOCAL_ONLY
+        barred = set(dir(builtins)) - LOCAL_ONLY - {"_"}
         for path, tree in trees():
             for name in bound(tree):
                 self.assertNotIn(name, barred, path)
