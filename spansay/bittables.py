@@ -13,7 +13,7 @@ class Tables:
         self.wide = many
         self.square = (1 << many * many) - 1
         self.diagonal = sum([1 << place * (many + 1) for place in range(many)])
-        self.whole = sum([1 << first * many + last for first in range(many) for last in range(first, many)])
+        self.whole = sum([self.row(first, many) for first in range(many)])
         row_starts = sum([1 << first * many for first in range(many)])
         self.steps = []
         step = 1
@@ -28,14 +28,20 @@ class Tables:
         """Return the table of one stretch alone."""
         return 1 << first * self.wide + last
 
+    def row(self, first, end):
+        """Return the table of the stretches that begin with a place and end ahead of another one."""
+        return (1 << end) - (1 << first) << first * self.wide
+
     def fact(self, run, fact):
         """Return the table of the stretches all along which there is a fact."""
         table = 0
-        for first in range(self.wide):
-            last = first
-            while last < self.wide and fact in run[last]:
-                table |= self.bit(first, last)
-                last += 1
+        end = self.wide
+        for first in range(self.wide - 1, -1, -1):
+            if fact in run[first]:
+                table |= self.row(first, end)
+            else:
+                # No stretch from an earlier place on goes beyond this one.
+                end = first
         return table
 
     def rightward(self, table):

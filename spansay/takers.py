@@ -29,7 +29,7 @@ def explored(kind, many):
         state = states[len(moves)]
         sets[kind.set_in(state)] = True
         if len(sets) > MAX_SETS:
-            raise TooLarge(f"there are more than {MAX_SETS} sets")
+            raise TooLarge(f"there are more than {MAX_SETS} sets or states")
         row = []
         for at in range(many):
             after = kind.after(state, at)
