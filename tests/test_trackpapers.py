@@ -223,6 +223,29 @@ class JudgeTest(unittest.TestCase):
                 if len(line[0][1]) <= 60:
                     self.assertEqual(self.judge(SYSTEM, saying, (paper[0], line)), expected)
 
+    def test_numbers_that_a_state_may_have(self):
+        # All goes on as it should; what is wrong, if it is, is the number alone.
+        for saying in (POINT, ON):
+            for end in range(-2, 2):
+                for number in range(4):
+                    line = naive.plain_path_line(SYSTEM, saying, [], [(end, number)])
+                    self.assertEqual(self.judge(SYSTEM, saying, (line,)), is_state(SYSTEM, saying, [], (end, number)))
+
+    def test_rooms_and_states_just_beyond(self):
+        for saying in FORMS:
+            if saying[0] not in ("some", "all"):
+                continue
+            paper = readers_paper(SYSTEM, saying)
+            machine, table = paper[-1]
+            many = 2 if saying[1] in ("met", "earlier") else len(paper[-2][0][1])
+            for state, room in table:
+                for pair in ((many, 0), (many, 1), (many - 1, 2), (many + 5, 0)):
+                    further = ((state[0], state[1] + (pair,)), room)
+                    self.bad(SYSTEM, saying, with_line(paper, len(paper) - 1, table=table + (further,)))
+                for pair in ((-1, 0), (-1, 1), (0, -1)):
+                    further = ((state[0], (pair,) + state[1]), room)
+                    self.bad(SYSTEM, saying, with_line(paper, len(paper) - 1, table=table + (further,)))
+
     def test_other_machines_that_are_right(self):
         rng = random.Random(107)
         for system in (SYSTEM, SYSTEMS[3], SYSTEMS[4]):
