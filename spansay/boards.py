@@ -5,12 +5,12 @@ class Board:
     """The rooms of a machine, with the rooms to which choices lead.
 
     Choices are told by numbers: those of the player who chooses first, and
-    those of the other one. A target is a list with True for the rooms that are wanted.
+    those of the other one. For each room there is a table with a row for each choice of the first one.
+    A target is a list with True for the rooms that are wanted.
     """
 
-    def __init__(self, moves, firsts, seconds):
-        # Choices are given as bits of scenes: those of both players together are a scene's number.
-        self.tables = [[[row[one + other] for other in seconds] for one in firsts] for row in moves]
+    def __init__(self, tables):
+        self.tables = tables
 
     def many(self):
         """Return the number of rooms."""

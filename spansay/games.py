@@ -56,11 +56,13 @@ def board_of(facts, game, machine):
     """Return the board of a game with a machine."""
     first = game[1]
     firsts = bits_of(facts, choices_of(facts, game, first))
-    return Board(machine[1], firsts, bits_of(facts, choices_of(facts, game, other_player(first))))
+    seconds = bits_of(facts, choices_of(facts, game, other_player(first)))
+    # Choices are bits of scenes here: those of both players together are a scene's number.
+    return Board([[[row[one + other] for other in seconds] for one in firsts] for row in machine[1]])
 
 
 def plan_of(game, board, hits, player):
-    """Return the plan of a player, with all rooms from which this player wins."""
+    """Return the plan of a player, with all rooms of a board from which this player wins."""
     is_first = player == game[1]
     if player == seeker_of(game):
         if game[2] in AT_ONCE:

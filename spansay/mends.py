@@ -52,21 +52,29 @@ class Columns:
                         is_new = True
         return column
 
-    def behind(self, column, place):
-        """Return the column behind one place more."""
+    def start(self):
+        """Return the column ahead of the first place."""
+        return self.with_puts([FAR] * len(self.lets) + [0])
+
+    def behind(self, column, old):
+        """Return the column behind one place more, which has the scene `old`."""
         coming = [price + self.prices.leave for price in column]
-        turn = self.prices.turn[self.run[place]]
+        turn = self.prices.turn[old]
         for price, row in zip(column, self.rows):
             for scene, after in enumerate(row):
                 coming[after] = min(coming[after], price + turn[scene])
         return self.with_puts(coming)
 
+    def least(self, column):
+        """Return the least price of a column in a room that lets by, FAR or more if there is none."""
+        return min([price for price, is_let in zip(column, self.lets) if is_let], default=FAR)
+
     def distance(self):
         """Return the least price to come to a room that lets by, FAR or more if there is none."""
-        column = self.with_puts([FAR] * len(self.lets) + [0])
-        for place in range(len(self.run)):
-            column = self.behind(column, place)
-        return min([price for price, is_let in zip(column, self.lets) if is_let], default=FAR)
+        column = self.start()
+        for old in self.run:
+            column = self.behind(column, old)
+        return self.least(column)
 
 
 class Nearest:

@@ -56,6 +56,13 @@ def paper_of(run, saying, first, last):
     return yes, Writer(len(run)).written(truth, (first, last), yes)
 
 
+def size_of(paper):
+    """Return the number of the papers in a paper, itself included."""
+    if paper and paper[0] in ("one", "take"):
+        return 1 + size_of(paper[2])
+    return 1 + sum([size_of(part) for part in paper[1:]])
+
+
 class Judge:
     """Judges papers of the parts of a saying; it keeps the last right one of each claim."""
 

@@ -22,9 +22,16 @@ METHODS = set(
 )
 LOCAL_ONLY = {"object", "id", "format", "credits", "license", "copyright", "quit", "callable"}
 BARRED = re.compile(
-    r"(?<!\w)(type|typing|enum|Enum|Generic|Protocol|ABC|namedtuple|NamedTuple|mro|elements|open"
+    r"(?<!\w)(type|typing|enum|Enum|Generic|Protocol|ABC|namedtuple|NamedTuple|mro|elements"
     r"|input|law|register|eval|exec|globals|locals|vars|chr|lambda|global|async|yield)(?!\w)"
 )
+BARRED_NAMES = {
+    "mro", "elements", "open", "input", "law", "register", "version_info", "with_traceback", "add_note",
+    "dir", "eval", "exec", "exit", "gc", "os", "sys", "type", "vars", "id", "compile", "help", "license",
+}
+# What may be imported from the library.
+LIBRARY = {"math": {"gcd", "lcm"}}
+OWN_ERRORS = {"NotAllowed", "BadForm", "Missing", "TooLarge", "Broken", "BadPaper"}
 STATEMENTS = (
     ast.Assign, ast.AugAssign, ast.If, ast.While, ast.For, ast.Return, ast.Break, ast.Continue,
     ast.Raise, ast.Expr, ast.FunctionDef, ast.ClassDef, ast.ImportFrom, ast.Try,
@@ -96,6 +103,12 @@ class FilesTest(unittest.TestCase):
         for path in FILES:
             self.assertIsNone(BARRED.search(code_words(path)), path)
 
+    def test_barred_names(self):
+        for path, tree in trees():
+            for node in ast.walk(tree):
+                for field in ("id", "attr", "arg", "name"):
+                    self.assertNotIn(getattr(node, field, None), BARRED_NAMES, path)
+
     def test_no_percent_sign_in_a_string(self):
         for path, tree in trees():
             for node in ast.walk(tree):
@@ -109,11 +122,29 @@ class ImportsTest(unittest.TestCase):
             for node in ast.walk(tree):
                 self.assertNotIsInstance(node, ast.Import)
                 if isinstance(node, ast.ImportFrom):
+                    names = {alias.name for alias in node.names}
+                    self.assertEqual([alias.asname for alias in node.names], [None] * len(node.names))
+                    if node.module in LIBRARY:
+                        self.assertLessEqual(names, LIBRARY[node.module], path)
+                        continue
                     package, name = node.module.split(".")
                     self.assertEqual(package, "spansay")
-                    names = {alias.name for alias in node.names}
                     self.assertLessEqual(names, defined(FOLDER / f"{name}.py"), path)
-                    self.assertEqual([alias.asname for alias in node.names], [None] * len(node.names))
+
+    def test_what_comes_of_the_library_is_called_on_the_spot(self):
+        for path, tree in trees():
+            taken = set()
+            for node in tree.body:
+                if isinstance(node, ast.ImportFrom) and node.module in LIBRARY:
+                    taken |= {alias.name for alias in node.names}
+            read = [n for n in ast.walk(tree) if isinstance(n, ast.Name) and n.id in taken]
+            called = [n.func for n in ast.walk(tree) if isinstance(n, ast.Call) and not n.keywords]
+            for node in read:
+                self.assertIn(node, called, path)
+            for node in functions(tree):
+                for part in ast.walk(node):
+                    if isinstance(part, ast.Try):
+                        self.assertFalse([n for n in ast.walk(part) if n in read], path)
 
     def test_each_import_is_used(self):
         for path, tree in trees():
@@ -124,8 +155,8 @@ class ImportsTest(unittest.TestCase):
     def test_no_two_files_import_from_each_other(self):
         after = {}
         for path, tree in trees():
-            found = [n.module.split(".")[1] for n in tree.body if isinstance(n, ast.ImportFrom)]
-            after[path.stem] = found
+            found = [n.module for n in tree.body if isinstance(n, ast.ImportFrom) and n.module not in LIBRARY]
+            after[path.stem] = [module.split(".")[1] for module in found]
         done = set()
         while len(done) < len(after):
             ready = {name for name in after if name not in done and set(after[name]) <= done}
@@ -158,7 +189,7 @@ class NamesTest(unittest.TestCase):
     def test_builtins_and_methods_that_are_called(self):
         own = own_methods()
         for path, tree in trees():
-            known = defined(path) | set(imported(tree))
+            known = defined(path) | set(imported(tree)) | from_tables(tree)
             for node in ast.walk(tree):
                 if not isinstance(node, ast.Call):
                     continue
@@ -227,6 +258,29 @@ class NamesTest(unittest.TestCase):
                         self.assertNotIn(getattr(part, "id", ""), tables, (path, node.lineno))
 
 
+def tables_of_functions(tree):
+    """The names of the dicts at module level whose values are functions that are defined above them."""
+    found = set()
+    above = set()
+    for node in tree.body:
+        if isinstance(node, ast.FunctionDef):
+            above.add(node.name)
+        if isinstance(node, ast.Assign) and isinstance(node.value, ast.Dict):
+            if all(isinstance(part, ast.Name) and part.id in above for part in node.value.values):
+                found.add(node.targets[0].id)
+    return found
+
+
+def from_tables(tree):
+    """The local names to which a function of such a table is assigned, by its index."""
+    found = set()
+    for node in ast.walk(tree):
+        if isinstance(node, ast.Assign) and isinstance(node.value, ast.Subscript):
+            if getattr(node.value.value, "id", "") in tables_of_functions(tree):
+                found.add(node.targets[0].id)
+    return found
+
+
 def bound(tree):
     found = bound_inside(tree)
     for node in ast.walk(tree):
@@ -255,7 +309,7 @@ class StatementsTest(unittest.TestCase):
                     self.assertEqual(node.decorator_list, [], (path, node.lineno))
                 self.assertNotIsInstance(node, (ast.Lambda, ast.NamedExpr, ast.Set, ast.SetComp))
                 if isinstance(node, ast.Try):
-                    self.assertEqual([h.type.id for h in node.handlers], ["BadForm"], (path, node.lineno))
+                    self.assertLessEqual({h.type.id for h in node.handlers}, OWN_ERRORS, (path, node.lineno))
                     self.assertFalse(node.finalbody)
                 if isinstance(node, ast.Constant):
                     self.assertNotIsInstance(node.value, (float, complex, bytes), path)
@@ -284,7 +338,8 @@ class StatementsTest(unittest.TestCase):
                 if isinstance(node, ast.Expr):
                     self.assertIsInstance(node.value, ast.Constant)
                 elif isinstance(node, ast.Assign):
-                    ast.literal_eval(node.value)
+                    if node.targets[0].id not in tables_of_functions(tree):
+                        ast.literal_eval(node.value)
                 else:
                     self.assertIsInstance(node, (ast.ImportFrom, ast.FunctionDef, ast.ClassDef), path)
 
