@@ -91,8 +91,9 @@ class Components:
             bits = self.step(k, bits, letter)
         return bits != 0
 
-    def way_within(self, k, start, ends):
-        """Return the shortest row of letters that leads through a component from a room to one of some rooms."""
+    def way_to(self, start, ends):
+        """Return the shortest row of letters that leads from a room of a component to one of some rooms of it."""
+        # What leads out of a component never leads back: so the row stays within it.
         waiting = [start]
         rows = {start: ()}
         at = 0
@@ -100,7 +101,7 @@ class Components:
             room = waiting[at]
             at += 1
             for letter, after in enumerate(self.moves[room]):
-                if self.is_within(k, after) and after not in rows:
+                if after not in rows:
                     rows[after] = rows[room] + (letter,)
                     waiting.append(after)
         return rows[waiting[at]]

@@ -129,13 +129,11 @@ class Cover:
             if untaken is None or not self.others.takes(j, row):
                 continue
             starts = [room for room in self.ones.rooms[k] if self.ones.room_within(k, room, untaken) is not None]
-            start = starts[0]
-            if at is not None:
-                way = self.ones.way_within(k, at, starts)
-                row.extend(way)
-                start = self.ones.room_within(k, at, way)
-            row.extend(untaken)
-            at = self.ones.room_within(k, start, untaken)
+            if at is None:
+                at = starts[0]
+            coming = list(self.ones.way_to(at, starts)) + untaken
+            row.extend(coming)
+            at = self.ones.room_within(k, at, coming)
         return row
 
 

@@ -61,6 +61,8 @@ def run_or_none(run):
     return "none" if run is None else run_text(run)
 
 
+# Each function from here on answers the lines with the word that it has in ANSWERS. Errors that
+# they raise are answered, too: so a text is read ahead of all that may go wrong besides.
 def start_store(desk, facts):
     desk.store = Store(facts, NEW_SYSTEM)
     desk.run = None

@@ -50,12 +50,14 @@ class Draft:
 
     def put(self, word, room, k, value):
         """Give a value to an open entry."""
-        self.entries(word, room)[k] = value
+        entries = self.entries(word, room)
+        entries[k] = value
         self.greatest.append(max(self.greatest[-1], value) if word == MOVE else self.greatest[-1])
 
     def take_away(self, word, room, k):
         """Open the entry again that got a value last."""
-        self.entries(word, room)[k] = None
+        entries = self.entries(word, room)
+        entries[k] = None
         self.greatest.pop()
 
     def chooser(self):

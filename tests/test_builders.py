@@ -338,6 +338,14 @@ class PapersTest(unittest.TestCase):
             wider = tuple((position, rank + 4, told) for position, rank, told in paper)
             self.assertEqual(builder_of(facts, sight, machine, wider), builder_of(facts, sight, machine, paper))
 
+    def test_the_first_position_comes_again(self):
+        machine = (((), ("on",)), ((1, 0), (0, 2), (2, 2)), (0, 1))
+        sight = (("on",), (), "builder", "always")
+        paper = ((((1,), ()), 0, ((),)), (FIRST, 0, ((),)))
+        self.assertEqual(builder_of(("on",), sight, machine, paper), ((((),), (1,)), (((),), (0,))))
+        paper = ((FIRST, 0, (("on",),)), (((1,), ()), 0, ((),)))
+        self.assertEqual(builder_of(("on",), sight, machine, paper), (((("on",),), (0,)),))
+
     def test_papers_that_are_not_right(self):
         rng = random.Random(239)
         for _ in range(60):

@@ -217,6 +217,24 @@ def sparse(rng, many):
     return (((), ("on",)), rows + ((many, many),), tuple(range(many)))
 
 
+def in_order(rng, facts, many):
+    """A random machine of so many components, one behind another: loops of one room, or ways around through two or three."""
+    letters = tuple(naive.scenes(facts))
+    sizes = [rng.choice([1, 1, 2, 3]) for _ in range(many)]
+    starts = [sum(sizes[:k]) for k in range(many + 1)]
+    dead = starts[-1]
+    rows = []
+    for k, size in enumerate(sizes):
+        for room in range(starts[k], starts[k + 1]):
+            around = starts[k] + (room - starts[k] + 1) % size
+            row = [rng.choice([dead, starts[rng.randint(min(k + 1, many - 1), many - 1)] if k + 1 < many else dead]) for _ in letters]
+            for at in rng.sample(range(len(letters)), rng.randint(1, max(1, len(letters) // 2))):
+                row[at] = around
+            rows.append(tuple(row))
+    rows.append((dead,) * len(letters))
+    return (letters, tuple(rows), tuple(range(dead)))
+
+
 class ComponentsTest(unittest.TestCase):
     def test_examples(self):
         self.assertEqual(components_of(ONE, EVERY), [(1,)])
@@ -380,6 +398,61 @@ class BoundedTest(unittest.TestCase):
         for word in ("bounded", "not"):
             for length in (1, 2, 3):
                 self.assertGreater(counts[word, length], 3, counts)
+
+    def test_components_in_order(self):
+        rng = random.Random(190)
+        lengths = {}
+        rows = {}
+        for _ in range(900):
+            facts = FACTS[:rng.randint(1, 2)]
+            first, second = in_order(rng, facts, rng.randint(1, 3)), in_order(rng, facts, rng.randint(1, 4))
+            slow = Slow(first, second)
+            word, paper = bounded(facts, first, second)
+            self.assertEqual(word == "bounded", slow.is_bounded())
+            self.assertTrue(self.judge(facts, slow, paper, word == "bounded"))
+            if len(paper) > 1:
+                self.judge(facts, slow, paper[::-1], word == "bounded")
+            if word == "not":
+                lengths[len(paper)] = lengths.get(len(paper), 0) + 1
+                rows[max(len(row) for _, row in paper)] = True
+        self.assertGreater(min(lengths[1], lengths[2]), 5)
+        self.assertGreater(max(rows), 5)
+
+    def test_chains_whose_components_are_all_covered(self):
+        # First off for a while, then on; the other machine has it the other way round.
+        off_on = (((), ("on",)), ((0, 1), (2, 1), (2, 2)), (0, 1))
+        on_off = (((), ("on",)), ((1, 0), (1, 2), (2, 2)), (0, 1))
+        slow = Slow(off_on, on_off)
+        self.assertEqual([any(row) for row in slow.covers], [True, True])
+        word, paper = bounded(ONE, off_on, on_off)
+        self.assertEqual((word, [k for k, _ in paper]), ("not", [0, 1]))
+        self.assertIsNone(judge_unbounded(ONE, off_on, on_off, paper))
+        for wrong in (paper[::-1], paper[:1], paper[1:], paper + paper[1:], paper[:1] + paper):
+            with self.assertRaises(BadPaper):
+                judge_unbounded(ONE, off_on, on_off, wrong)
+        self.assertEqual(bounded(ONE, off_on, off_on)[0], "bounded")
+
+    def test_a_row_that_is_put_together(self):
+        # A way around through three letters; each component of the other machine lacks one of the steps between them.
+        letters = tuple(naive.scenes(FACTS))
+        dead = (3,) * 8
+        around = ((0, 1) + (3,) * 6, (3, 3, 2) + (3,) * 5, (3, 3, 3, 3, 0) + (3,) * 3, dead)
+        first = (letters, around, (0, 1, 2))
+        parts = []
+        for k, lacking in enumerate((4, 2, 1)):
+            row = [k + 1] * 8
+            for at in (0, 1, 2, 4):
+                if at != lacking:
+                    row[at] = k
+            parts.append(tuple(row))
+        second = (letters, tuple(parts) + (dead,), (0, 1, 2))
+        slow = Slow(first, second)
+        self.assertEqual(len(slow.others), 3)
+        word, paper = bounded(FACTS, first, second)
+        self.assertEqual(word, "not")
+        self.assertTrue(slow.right_unbounded(paper))
+        self.assertIsNone(judge_unbounded(FACTS, first, second, paper))
+        self.assertGreater(len(paper[0][1]), 2)
 
     def judge(self, facts, slow, paper, is_bounded):
         """Compare with the words of the document."""

@@ -1,8 +1,10 @@
 """fewest.py: [14.9]."""
 
+import importlib
 import itertools
 import random
 import unittest
+from unittest import mock
 
 from spansay.builders import check_builder, wrong_of
 from spansay.errors import BadPaper, Missing, NotAllowed, TooLarge
@@ -17,6 +19,7 @@ from tests.test_knowledge import choices
 from tests.test_sights import random_sight
 from tests.test_takers import BEYOND_THE_BOUNDS, FACTS as THREE_FACTS
 
+module = importlib.import_module("spansay.fewest")
 ON, LONG = ("fact", "on"), ("not", ("point",))
 SAYING = ("and", ("all", "begins", ("or", LONG, ON)), ("all", "ends", ("or", LONG, ("not", ON))))
 ALONE = (("on",), (), "builder", "always")
@@ -308,6 +311,33 @@ class FewestTest(unittest.TestCase):
                 tree = too_few(facts, sight, machine, number)
                 self.assertEqual(tree_size(tree), looked)
                 self.assertIsNone(judge_too_few(facts, sight, machine, number, tree))
+
+    def test_just_as_many_trees_as_the_bound(self):
+        rng = random.Random(248)
+        counts = {True: 0, False: 0}
+        while min(counts.values()) < 20:
+            facts = THREE_FACTS[:rng.randint(1, 3)]
+            sight = random_sight(rng, facts)
+            case = (facts, sight, random_machine(rng, facts, rng.randint(1, 4)), rng.randint(1, 3))
+            try:
+                too_few(*case)
+            except TooLarge:
+                continue
+            except Missing:
+                pass
+            looked, is_won = Slow(*case).count()
+            if not 2 <= looked <= 200:
+                continue
+            counts[is_won] += 1
+            with mock.patch.object(module, "MAX_TREE", looked):
+                if is_won:
+                    with self.assertRaises(Missing):
+                        too_few(*case)
+                else:
+                    self.assertEqual(tree_size(too_few(*case)), looked)
+            with mock.patch.object(module, "MAX_TREE", looked - 1):
+                with self.assertRaises(TooLarge):
+                    too_few(*case)
 
     def test_sayings_whose_tree_is_too_large(self):
         # Three facts are seen: rows have eight moves.

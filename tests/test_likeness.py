@@ -381,6 +381,11 @@ class JudgeTest(unittest.TestCase):
             judge_apart(ALONE, ("begins",), 1, long, long, chain, (0, 1, 2))
         with self.assertRaises(BadPaper):
             judge_apart(ALONE, ("begins",), 0, short, long, chain, (0, 1, 2))
+        # Other ways, with which all first runs of the keeper keep it as well.
+        self.assertIsNone(judge_apart(ALONE, ("begins", "ends"), 1, short, long, chain, (0, 1, 2)))
+        for ways in (("ends",), (), ("begun", "ends")):
+            with self.assertRaises(BadPaper):
+                judge_apart(ALONE, ways, 1, short, long, chain, (0, 1, 2))
 
 
 class WaysTest(unittest.TestCase):
